@@ -7,6 +7,32 @@ MOST_NODES = 300
 SPELLED_FORMS = ("name", "number")
 PLAIN_FORMS = ("true", "false", "nil")
 
+# What stands in core text behind each form's first word, in turn; an apply has no such word.
+# A body is a part in which the form's names are bound.
+FORMS = {
+    "fn": ("name", "body"),
+    "rec": ("name", "name", "body"),
+    "let": ("name", "part", "body"),
+    "if": ("part", "part", "part"),
+    "apply": ("part", "part"),
+    "pair": ("part", "part"),
+    "fst": ("part",),
+    "snd": ("part",),
+    "cons": ("part", "part"),
+    "case": ("part", "part", "name", "name", "body"),
+    "fold": ("part", "part", "part"),
+    "+": ("part", "part"),
+    "-": ("part", "part"),
+    "*": ("part", "part"),
+    "/": ("part", "part"),
+    "<": ("part", "part"),
+    "=": ("part", "part"),
+    "floor": ("part", "part"),
+    "rest": ("part", "part"),
+    "root": ("part",),
+    "^": ("part", "power"),
+}
+
 
 # One node of a term with its stretch, from byte begin to before byte end.
 # The form is the word or sign that core text puts first, or "name", "number" or "apply".
@@ -38,14 +64,19 @@ def check_limits(term):
 
 
 def core_text(term):
+    return unfolded(term, core_pieces)
+
+
+# The text that is left when all but texts is replaced, again and again, by the pieces it is made of.
+def unfolded(whole, pieces_of):
     shown = []
-    todo = [term]
+    todo = [whole]
     while todo:
         item = todo.pop()
         if isinstance(item, str):
             shown.append(item)
         else:
-            for piece in reversed(core_pieces(item)):
+            for piece in reversed(pieces_of(item)):
                 todo.append(piece)
     return "".join(shown)
 
@@ -57,19 +88,24 @@ def core_pieces(node):
     if node.form in PLAIN_FORMS:
         return [node.form]
     pieces = ["("]
-    for piece in bracket_pieces(node):
+    if node.form != "apply":
+        pieces.append(node.form)
+    for content in contents(node):
         if len(pieces) > 1:
             pieces.append(" ")
-        pieces.append(piece)
+        pieces.append(content)
     pieces.append(")")
     return pieces
 
 
-def bracket_pieces(node):
-    if node.form == "apply":
-        return node.parts
-    if node.form == "case":
-        return [node.form] + node.parts[:2] + node.words + node.parts[2:]
-    if node.form == "^":
-        return [node.form] + node.parts + node.words
-    return [node.form] + node.words + node.parts
+# The node's words and parts in the order in which they stand in core text.
+def contents(node):
+    found = []
+    words = 0
+    for step in FORMS[node.form]:
+        if step == "part" or step == "body":
+            found.append(node.parts[len(found) - words])
+        else:
+            found.append(node.words[words])
+            words += 1
+    return found

@@ -4,33 +4,23 @@ from measuretext.faults import Fault
 from measuretext.grammar import RULES
 from measuretext.makers import MAKERS, Piece, Use
 from measuretext.nodes import check_limits
-from measuretext.scan import SIGN_GROUP, Token, surface_tokens
+from measuretext.scan import Row, surface_tokens
 
 MOST_OUTER_EXPRESSIONS = 39
 
 
 # Where a reading stands: the tokens, what is still to do (the next last), and what was read so far.
 class Reader:
-    def __init__(self, ahead):
-        self.ahead = ahead
-        self.index = 0
+    def __init__(self, row):
+        self.row = row
         self.todo = ["end", "EXPRESSION"]
         self.taken = []
         self.around = 0
 
-    def upcoming(self):
-        return self.ahead[self.index]
-
-    def take_token(self):
-        self.taken.append(self.upcoming())
-        self.index += 1
-
 
 # The term that the surface text says, within the limits of depth and size.
 def surface_term(text):
-    ahead = surface_tokens(text)
-    ahead.append(Token(SIGN_GROUP, "end", len(text), len(text), ""))
-    reader = Reader(ahead)
+    reader = Reader(Row(surface_tokens(text), len(text)))
     while reader.todo:
         go_on(reader, reader.todo.pop())
     term = reader.taken[0].node
@@ -45,22 +35,22 @@ def go_on(reader, step):
         make_piece(reader, step)
     elif step == "leave expression":
         reader.around -= 1
-    elif step == "any token" or step == reader.upcoming().kind:
-        reader.take_token()
+    elif step == "any token":
+        reader.taken.append(reader.row.take())
     else:
-        raise Fault(6, reader.upcoming().begin)
+        reader.taken.append(reader.row.take_kind(step))
 
 
 def begin_rule(reader, rule):
     if rule == "EXPRESSION":
         enter_expression(reader)
-    for step in reversed(path_of(rule, reader.upcoming())):
+    for step in reversed(path_of(rule, reader.row.upcoming())):
         reader.todo.append(step)
 
 
 def enter_expression(reader):
     if reader.around > MOST_OUTER_EXPRESSIONS:
-        raise Fault(7, reader.upcoming().begin)
+        raise Fault(7, reader.row.upcoming().begin)
     reader.around += 1
     reader.todo.append("leave expression")
 

@@ -1,20 +1,21 @@
-"""Taking a surface text apart into its tokens."""
+"""Taking a surface text or a core text apart into its tokens."""
 
 from measuretext.faults import Fault
-from measuretext.figures import fraction_of, is_measure, measured, number_end
+from measuretext.figures import fraction_of, is_measure, measured, negated, number_end
 from measuretext.signs import (
-    BLANK,
     COMMENT_BEGIN,
     COMMENT_END,
-    LINE_END,
     MEASURE_BEGIN,
+    MINUS,
     MOST_SIGNS,
     TAKEN_WORDS,
     is_before_measure_end,
+    is_blank,
     is_digit,
     is_in_comment,
     is_in_word,
     is_letter,
+    is_space,
     run_end,
     signs_of,
 )
@@ -22,12 +23,15 @@ from measuretext.signs import (
 WORD_GROUP = 0
 NUMBER_GROUP = 1
 SIGN_GROUP = 2
-DOUBLE_SIGNS = ("->", "::", "<=", ">=", "<>")
-SINGLE_SIGNS = ("|", "<", ">", "=", "+", "-", "*", "/", "^", "(", ")", "[", "]", ",")
+SURFACE_SIGNS = (
+    "->", "::", "<=", ">=", "<>",
+    "|", "<", ">", "=", "+", "-", "*", "/", "^", "(", ")", "[", "]", ",",
+)
+CORE_SIGNS = ("(", ")", "+", "-", "*", "/", "^", "<", "=")
 
 
-# A piece of text that the grammar takes as one.
-# The kind is what the grammar asks for: "name", "number", "digit", or the taken word or the sign itself.
+# A piece of text that the rules take as one.
+# The kind is what the rules ask for: "name", "number", "digit", or the taken word or the sign itself.
 # The content is a name's text or a number's amount.
 class Token:
     def __init__(self, group, kind, begin, end, content):
@@ -38,19 +42,54 @@ class Token:
         self.content = content
 
 
+# The tokens of a text, taken one by one; behind them stands one of the kind "end".
+class Row:
+    def __init__(self, found, length):
+        self.ahead = found + [Token(SIGN_GROUP, "end", length, length, "")]
+        self.index = 0
+
+    def upcoming(self):
+        return self.ahead[self.index]
+
+    def take(self):
+        token = self.upcoming()
+        self.index += 1
+        return token
+
+    def take_kind(self, kind):
+        if self.upcoming().kind != kind:
+            raise Fault(6, self.upcoming().begin)
+        return self.take()
+
+
 def surface_tokens(text):
+    return tokens_between(text, surface_gap_end, surface_token)
+
+
+def core_tokens(text):
+    return tokens_between(text, core_gap_end, core_token)
+
+
+# All tokens, each where the gap before it ends.
+def tokens_between(text, gap_end, token_at):
     found = []
-    place = 0
+    place = gap_end(text, 0)
     while place < len(text):
-        if text[place] == BLANK or text[place] == LINE_END:
-            place += 1
-        elif text[place] == COMMENT_BEGIN:
-            place = comment_end(text, place)
-        else:
-            token = token_at(text, place)
-            found.append(token)
-            place = token.end
+        token = token_at(text, place)
+        found.append(token)
+        place = gap_end(text, token.end)
     return found
+
+
+def core_gap_end(text, place):
+    return run_end(text, place, is_blank)
+
+
+def surface_gap_end(text, place):
+    end = run_end(text, place, is_space)
+    while end < len(text) and text[end] == COMMENT_BEGIN:
+        end = run_end(text, comment_end(text, end), is_space)
+    return end
 
 
 def comment_end(text, begin):
@@ -62,12 +101,21 @@ def comment_end(text, begin):
     return end + 1
 
 
-def token_at(text, begin):
+def surface_token(text, begin):
     if is_letter(text[begin]):
         return word_token(text, begin)
     if is_digit(text[begin]):
-        return number_token(text, begin)
-    return sign_token(text, begin)
+        return number_token(text, begin, begin)
+    return sign_token(text, begin, SURFACE_SIGNS)
+
+
+def core_token(text, begin):
+    if is_letter(text[begin]):
+        return word_token(text, begin)
+    digits = begin + 1 if text[begin] == MINUS else begin
+    if digits < len(text) and is_digit(text[digits]):
+        return number_token(text, begin, digits)
+    return sign_token(text, begin, CORE_SIGNS)
 
 
 def word_token(text, begin):
@@ -79,17 +127,20 @@ def word_token(text, begin):
     return Token(WORD_GROUP, kind, begin, end, word)
 
 
-def number_token(text, begin):
-    end = number_end(text, begin)
-    amount = fraction_of(signs_of(text[begin:end]))
+# The number whose digits begin at the second place; between the two stands its - if it has one.
+def number_token(text, begin, digits):
+    end = number_end(text, digits)
+    amount = fraction_of(signs_of(text[digits:end]))
     if amount is None:
         raise Fault(4, begin)
     if end < len(text) and text[end] == MEASURE_BEGIN:
         measure = measure_at(text, end)
         amount = measured(amount, measure)
         end = end + len(measure) + 2
+    if begin < digits:
+        amount = negated(amount)
     # A number of one byte has neither a second row of digits nor a measure.
-    kind = "digit" if end - begin == 1 else "number"
+    kind = "digit" if end - digits == 1 else "number"
     return Token(NUMBER_GROUP, kind, begin, end, amount)
 
 
@@ -102,10 +153,11 @@ def measure_at(text, begin):
     return measure
 
 
-def sign_token(text, begin):
+# The longest of the given signs that stands at the given place.
+def sign_token(text, begin, signs):
     sign = signs_of(text[begin:begin + 2])
-    if sign not in DOUBLE_SIGNS:
+    if sign not in signs:
         sign = sign[:1]
-        if sign not in SINGLE_SIGNS:
-            raise Fault(1, begin)
+    if sign not in signs:
+        raise Fault(1, begin)
     return Token(SIGN_GROUP, sign, begin, begin + len(sign), sign)

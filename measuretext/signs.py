@@ -6,6 +6,7 @@ COMMENT_BEGIN = 123
 COMMENT_END = 125
 MEASURE_BEGIN = 91
 MEASURE_END = 93
+MINUS = 45
 FRACTION_SIGNS = (46, 47)
 FIRST_PRINTED = 32
 LAST_PRINTED = 126
@@ -35,6 +36,14 @@ def is_digit(byte):
 
 def is_in_word(byte):
     return is_letter(byte) or is_digit(byte) or byte == 95
+
+
+def is_blank(byte):
+    return byte == BLANK
+
+
+def is_space(byte):
+    return byte == BLANK or byte == LINE_END
 
 
 def is_in_comment(byte):

@@ -1,6 +1,8 @@
 """The calls. Each takes texts as lists of bytes and answers a list of whole numbers."""
 
+from measuretext.core_reader import core_term
 from measuretext.faults import Fault
+from measuretext.layout import surface_text
 from measuretext.nodes import core_text
 from measuretext.reader import surface_term
 from measuretext.scan import surface_tokens
@@ -12,27 +14,48 @@ ANSWER_TOO_LONG = -4
 
 # Of each token of a surface text its sort, its place and how many bytes it has.
 def tokens(text):
+    return answered(text, surface_tokens, tokens_answer)
+
+
+# The core text of the term that a surface text says.
+def read(text):
+    return answered(text, surface_term, core_answer)
+
+
+# The core text, as it is shown, of the term that a core text says.
+def core(text):
+    return answered(text, core_term, core_answer)
+
+
+# The surface text of the term that a core text says.
+def show(text):
+    return answered(text, core_term, surface_answer)
+
+
+# What is answered of what the text is read to, or the text's refusal or fault.
+def answered(text, reading, answering):
     if len(text) > MOST_BYTES:
         return [TEXT_TOO_LONG]
     try:
-        found = surface_tokens(text)
+        found = reading(text)
     except Fault as fault:
         return [fault.kind, fault.place]
+    return answering(found)
+
+
+def tokens_answer(found):
     answer = [0]
     for token in found:
         answer.extend([token.group, token.begin, token.end - token.begin])
     return answer
 
 
-# The core text of the term that a surface text says.
-def read(text):
-    if len(text) > MOST_BYTES:
-        return [TEXT_TOO_LONG]
-    try:
-        term = surface_term(text)
-    except Fault as fault:
-        return [fault.kind, fault.place]
+def core_answer(term):
     return text_answer(core_text(term))
+
+
+def surface_answer(term):
+    return text_answer(surface_text(term))
 
 
 def text_answer(shown):
