@@ -46,21 +46,25 @@ class Node:
         self.end = end
 
 
-# Raise the fault of the first node that lies too deep or is one too many.
-def check_limits(term):
-    number = 0
+# All nodes in the order of their numbers, each with its depth.
+def numbered(term):
+    found = []
     todo = [(term, 1)]
     while todo:
         item = todo.pop()
-        node = item[0]
-        depth = item[1]
-        if depth > MOST_DEPTH:
-            raise Fault(8, node.begin)
+        found.append(item)
+        for part in reversed(item[0].parts):
+            todo.append((part, item[1] + 1))
+    return found
+
+
+# Raise the fault of the first node that lies too deep or is one too many.
+def check_limits(term):
+    for number, item in enumerate(numbered(term)):
+        if item[1] > MOST_DEPTH:
+            raise Fault(8, item[0].begin)
         if number == MOST_NODES:
-            raise Fault(9, node.begin)
-        number += 1
-        for part in reversed(node.parts):
-            todo.append((part, depth + 1))
+            raise Fault(9, item[0].begin)
 
 
 def core_text(term):

@@ -3,12 +3,13 @@
 from measuretext.core_reader import core_term
 from measuretext.faults import Fault
 from measuretext.layout import surface_text
-from measuretext.nodes import core_text
+from measuretext.nodes import core_text, numbered
 from measuretext.reader import surface_term
 from measuretext.scan import surface_tokens
 
 MOST_BYTES = 2000
 TEXT_TOO_LONG = -1
+NOT_THERE = -2
 ANSWER_TOO_LONG = -4
 
 
@@ -30,6 +31,16 @@ def core(text):
 # The surface text of the term that a core text says.
 def show(text):
     return answered(text, core_term, surface_answer)
+
+
+# The surface text, as it is shown, of the term that a surface text says.
+def tidy(text):
+    return answered(text, surface_term, surface_answer)
+
+
+# Where the stretch of the node with the given number begins, and how many bytes it has.
+def where(node, text):
+    return answered(text, surface_term, lambda term: stretch_answer(term, node))
 
 
 # What is answered of what the text is read to, or the text's refusal or fault.
@@ -56,6 +67,14 @@ def core_answer(term):
 
 def surface_answer(term):
     return text_answer(surface_text(term))
+
+
+def stretch_answer(term, number):
+    found = numbered(term)
+    if number < 0 or number >= len(found):
+        return [NOT_THERE]
+    node = found[number][0]
+    return [0, node.begin, node.end - node.begin]
 
 
 def text_answer(shown):

@@ -1,10 +1,4 @@
-"""Texts as the calls take them, answers as people read them, and terms made up at random.
-
-A made-up term is a text (a name, a number, true, false, nil) or a tuple in the order of core text, with its form's
-word first; that of an application is "apply".
-"""
-
-import random
+"""Texts as the calls take them, and answers as people read them."""
 
 from measuretext import terms
 
@@ -12,15 +6,6 @@ TAKEN = (
     "fn let rec if cons case pair fst snd fold root floor rest true false nil truth num list base unit def fun in "
     "then else match with and or not"
 ).split()
-
-# n stands for a name that is bound, p for a part, b for a part in which the names are bound, d for an exponent.
-SHAPES = {
-    "fn": "nb", "rec": "nnb", "let": "npb", "if": "ppp", "apply": "pp", "pair": "pp", "fst": "p", "snd": "p",
-    "cons": "pp", "case": "ppnnb", "fold": "ppp", "+": "pp", "-": "pp", "*": "pp", "/": "pp", "<": "pp", "=": "pp",
-    "floor": "pp", "rest": "pp", "root": "p", "^": "pd",
-}
-NAMES = ["x", "y", "f", "v0", "v1", "v2", "v10", "lets", "abcdefghijkl"]
-LEAVES = NAMES + ["true", "false", "nil", "nil", "nil", "0", "3", "-3", "3/4", "-1/2", "5[m]", "-7[m/s^-2]", "0[km]"]
 
 
 def data(text):
@@ -44,6 +29,24 @@ def core(text):
 
 def show(text):
     return said(terms.show(data(text)))
+
+
+def tidy(text):
+    return said(terms.tidy(data(text)))
+
+
+def where(node, text):
+    return terms.where(node, data(text))
+
+
+def stretches(text):
+    """What where answers of each node, without the 0."""
+    found = []
+    answer = where(0, text)
+    while answer[0] == 0:
+        found.append(tuple(answer[1:]))
+        answer = where(len(found), text)
+    return found
 
 
 def tokens(text):
@@ -78,36 +81,33 @@ def measured(length):
     return "1[" + "m." * ((count - 1) // 2) + "m" * (1 + (count - 1) % 2) + "]"
 
 
-def made_up(source, size, depth=40, leaves=LEAVES):
-    """A term of about the given size and at most the given depth."""
-    if size <= 1 or depth == 1:
-        return source.choice(leaves)
-    form = source.choice(sorted(SHAPES))
-    shares = [source.random() for sign in SHAPES[form]]
-    found = [form]
-    for sign, share in zip(SHAPES[form], shares):
-        if sign == "n":
-            found.append(source.choice(NAMES))
-        elif sign == "d":
-            found.append(str(source.randrange(-9, 10)))
-        else:
-            found.append(made_up(source, int((size - 1) * share / sum(shares)), depth - 1, leaves))
-    return tuple(found)
-
-
-def many_terms(count, seed, most=60):
-    source = random.Random(seed)
-    return [made_up(source, source.randrange(1, most), source.choice([3, 6, 40])) for number in range(count)]
-
-
-def core_of(term):
-    if isinstance(term, str):
-        return term
-    words = term[1:] if term[0] == "apply" else term
-    return "(" + " ".join(core_of(word) for word in words) + ")"
-
-
-def parts_of(term):
-    if isinstance(term, str):
-        return []
-    return [piece for sign, piece in zip(SHAPES[term[0]], term[1:]) if sign in "pb"]
+# A surface text with each fault, some with several, and the fault that is told.
+SURFACE_FAULTS = {
+    "": [6, 0],
+    " {a} \n": [6, 6],
+    "x ?": [1, 2],
+    "x {a\t}": [1, 4],
+    "x.y": [1, 1],
+    "x {note": [2, 2],
+    "f abcdefghijklm": [3, 2],
+    "f 1/0": [4, 2],
+    "- 1/0": [4, 2],
+    "0.000000000001": [4, 0],
+    "5[m": [5, 1],
+    "f 12[m..s]": [5, 4],
+    ") ?": [1, 2],
+    "1 + ": [6, 4],
+    "(1": [6, 2],
+    "a < b < c": [6, 6],
+    "fun let -> x": [6, 4],
+    "x ^ 10": [6, 4],
+    "f - fst": [6, 7],
+    "let x = 1 then x": [6, 10],
+    "(" * 40 + "x": [7, 40],
+    "[" * 41: [7, 40],
+    "x" + "^2" * 40: [8, 0],
+    "f (x" + "^2" * 39 + ")": [8, 3],
+    "not " * 40 + "a": [8, 160],
+    tree(151): [9, tree(151).rindex("x")],
+    "[" + tree(150) + "]": [9, 0],
+}

@@ -1,8 +1,9 @@
 import random
 import unittest
 
-from helper import SHAPES, TAKEN, core, core_of, core_tree, data, many_terms, measured
+from helper import TAKEN, core, core_tree, data, measured
 from measuretext import terms
+from model import SHAPES, core_of, many_terms
 
 FORM_WORDS = "fn rec let if pair fst snd cons case fold floor rest root".split()
 FORM_SIGNS = "+ - * / ^ < =".split()

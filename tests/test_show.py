@@ -1,7 +1,8 @@
 import unittest
 
-from helper import SHAPES, core_of, core_tree, data, many_terms, measured, read, show
+from helper import core_tree, data, measured, read, show
 from measuretext import terms
+from model import SHAPES, core_of, many_terms, ranked
 
 # A term of each kind, its surface text and its rank.
 KINDS = (
@@ -254,68 +255,6 @@ class Joined(Cases):
             "(if a true b)": "if a then true else b",
             "(if (< b a) false true)": "if b < a then false else true",
         })
-
-
-def ranked(term, rank=0):
-    """The surface text of a made-up term, by the document's words."""
-    text, own = laid_out(term)
-    return "(" + text + ")" if own < rank else text
-
-
-def names_within(term):
-    names = ""
-    while isinstance(term, tuple) and term[0] == "fn":
-        names += " " + term[1]
-        term = term[2]
-    return names, ranked(term)
-
-
-def chain(term, form):
-    found = []
-    while isinstance(term, tuple) and term[0] == form:
-        found.append(term[1])
-        term = term[2]
-    return found, term
-
-
-SIGN_RANKS = {"<": (4, 5, 5), "=": (4, 5, 5), "+": (6, 6, 7), "-": (6, 6, 7), "*": (7, 7, 8), "/": (7, 7, 8)}
-
-
-def laid_out(term):
-    if isinstance(term, str):
-        return ("[]" if term == "nil" else term), (9 if term[0] == "-" else 10)
-    form, rest = term[0], term[1:]
-    if form in ("fn", "rec"):
-        names, within = names_within(term if form == "fn" else term[3])
-        lead = "fun" if form == "fn" else f"rec {term[1]} {term[2]}"
-        return f"{lead}{names} -> {within}", 0
-    if form == "let":
-        name, value, body = rest
-        lead = "let " + name
-        if isinstance(value, tuple) and value[:2] == ("rec", name):
-            lead, value = f"let rec {name} {value[2]}", value[3]
-        names, within = names_within(value)
-        return f"{lead}{names} = {within} in {ranked(body)}", 0
-    if form == "if":
-        return "if {} then {} else {}".format(*map(ranked, rest)), 0
-    if form == "case":
-        return f"match {ranked(rest[0])} with [] -> {ranked(rest[1])} | {rest[2]} :: {rest[3]} -> {ranked(rest[4])}", 0
-    if form in SIGN_RANKS:
-        own, left, right = SIGN_RANKS[form]
-        return f"{ranked(rest[0], left)} {form} {ranked(rest[1], right)}", own
-    if form == "cons":
-        found, last = chain(term, "cons")
-        if last == "nil":
-            return "[" + ", ".join(map(ranked, found)) + "]", 10
-        return f"{ranked(rest[0], 6)} :: {ranked(rest[1], 5)}", 5
-    if form == "pair":
-        found, last = chain(term, "pair")
-        return "(" + ", ".join(map(ranked, found + [last])) + ")", 10
-    if form == "^":
-        return f"{ranked(rest[0], 8)} ^ {rest[1]}", 8
-    if form == "apply":
-        return f"{ranked(rest[0], 9)} {ranked(rest[1], 10)}", 9
-    return " ".join([form] + [ranked(part, 10) for part in rest]), 9
 
 
 def bracket_pairs(text):
