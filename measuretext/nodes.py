@@ -97,19 +97,19 @@ def core_pieces(node):
     for content in contents(node):
         if len(pieces) > 1:
             pieces.append(" ")
-        pieces.append(content)
+        pieces.append(content[1])
     pieces.append(")")
     return pieces
 
 
-# The node's words and parts in the order in which they stand in core text.
+# The node's words and parts in the order in which they stand in core text, each behind what FORMS calls it.
 def contents(node):
     found = []
     words = 0
-    for step in FORMS[node.form]:
+    for step in FORMS.get(node.form, ()):
         if step == "part" or step == "body":
-            found.append(node.parts[len(found) - words])
+            found.append((step, node.parts[len(found) - words]))
         else:
-            found.append(node.words[words])
+            found.append((step, node.words[words]))
             words += 1
     return found

@@ -1,5 +1,6 @@
 """The calls. Each takes texts as lists of bytes and answers a list of whole numbers."""
 
+from measuretext.bound import free_names
 from measuretext.core_reader import core_term
 from measuretext.faults import Fault
 from measuretext.layout import surface_text
@@ -43,6 +44,16 @@ def where(node, text):
     return answered(text, surface_term, lambda term: stretch_answer(term, node))
 
 
+# The number of the node with the shortest stretch that holds the byte at the given place.
+def at(place, text):
+    return answered(text, surface_term, lambda term: node_answer(term, place))
+
+
+# Of each free name of the term that a core text says its length and its bytes.
+def free(text):
+    return answered(text, core_term, free_answer)
+
+
 # What is answered of what the text is read to, or the text's refusal or fault.
 def answered(text, reading, answering):
     if len(text) > MOST_BYTES:
@@ -77,7 +88,31 @@ def stretch_answer(term, number):
     return [0, node.begin, node.end - node.begin]
 
 
+def node_answer(term, place):
+    shortest = None
+    answer = [NOT_THERE]
+    for number, item in enumerate(numbered(term)):
+        node = item[0]
+        length = node.end - node.begin
+        if node.begin <= place < node.end and (shortest is None or length < shortest):
+            shortest = length
+            answer = [0, number]
+    return answer
+
+
+def free_answer(term):
+    answer = [0]
+    for name in free_names(term):
+        answer.append(len(name))
+        answer.extend(bytes_of(name))
+    return answer
+
+
 def text_answer(shown):
     if len(shown) > MOST_BYTES:
         return [ANSWER_TOO_LONG]
-    return [0] + [ord(sign) for sign in shown]
+    return [0] + bytes_of(shown)
+
+
+def bytes_of(shown):
+    return [ord(sign) for sign in shown]

@@ -39,6 +39,23 @@ def where(node, text):
     return terms.where(node, data(text))
 
 
+def at(place, text):
+    return terms.at(place, data(text))
+
+
+def free(text):
+    """The free names in their order, or the numbers of a fault or refusal."""
+    answer = terms.free(data(text))
+    if answer[0] != 0:
+        return answer
+    found, place = [], 1
+    while place < len(answer):
+        end = place + 1 + answer[place]
+        found.append("".join(chr(byte) for byte in answer[place + 1:end]))
+        place = end
+    return found
+
+
 def stretches(text):
     """What where answers of each node, without the 0."""
     found = []
@@ -110,4 +127,32 @@ SURFACE_FAULTS = {
     "not " * 40 + "a": [8, 160],
     tree(151): [9, tree(151).rindex("x")],
     "[" + tree(150) + "]": [9, 0],
+}
+
+# The same for core texts.
+CORE_FAULTS = {
+    "": [6, 0],
+    "   ": [6, 3],
+    "(f\nx)": [1, 2],
+    "{} x": [1, 0],
+    "(fun x -> x)": [1, 8],
+    "(f abcdefghijklm)": [3, 3],
+    "(f -1/0)": [4, 3],
+    "0000000000001": [4, 0],
+    "(f -1[M])": [5, 5],
+    "5[m": [5, 1],
+    ") ?": [1, 2],
+    "(+ 1": [6, 4],
+    "(a)": [6, 2],
+    "a b": [6, 2],
+    "a + b": [6, 2],
+    "(fun x a)": [6, 1],
+    "(fn let x)": [6, 4],
+    "(^ a 10)": [6, 5],
+    "(" * 41: [8, 40],
+    "(f " * 39 + "(": [8, 118],
+    "(fn x " * 40 + "x": [8, 240],
+    core_tree(151): [9, core_tree(151).rindex("x")],
+    "(pair " + core_tree(150) + " (f x))": [9, 7 + len(core_tree(150))],
+    core_tree(151) + " ?": [1, len(core_tree(151)) + 1],
 }

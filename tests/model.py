@@ -110,3 +110,20 @@ def laid_out(term):
     if form == "apply":
         return f"{ranked(rest[0], 9)} {ranked(rest[1], 10)}", 9
     return " ".join([form] + [ranked(part, 10) for part in rest]), 9
+
+
+def is_name(term):
+    return isinstance(term, str) and term[0].isalpha() and term not in ("true", "false", "nil")
+
+
+def free_of(term):
+    """The free names, each once, in the order in which they first stand free."""
+    if isinstance(term, str):
+        return [term] if is_name(term) else []
+    shape = SHAPES[term[0]]
+    bound = [piece for sign, piece in zip(shape, term[1:]) if sign == "n"]
+    found = []
+    for sign, piece in zip(shape, term[1:]):
+        if sign in "pb":
+            found += [name for name in free_of(piece) if sign == "p" or name not in bound]
+    return list(dict.fromkeys(found))

@@ -1,6 +1,6 @@
 import unittest
 
-from helper import core_tree, data, measured, read, show
+from helper import CORE_FAULTS, core, core_tree, data, measured, read, show
 from measuretext import terms
 from model import SHAPES, core_of, many_terms, ranked
 
@@ -329,27 +329,9 @@ class LongAnswers(unittest.TestCase):
 
 class Faults(unittest.TestCase):
     def test_as_for_core(self):
-        whole = core_tree(151)
-        for text, found in {
-            "": [6, 0],
-            "(+ 1": [6, 4],
-            "(a)": [6, 2],
-            "a b": [6, 2],
-            "(f\nx)": [1, 2],
-            "a + b": [6, 2],
-            "{} x": [1, 0],
-            "(f abcdefghijklm)": [3, 3],
-            "(f -1/0)": [4, 3],
-            "(f -1[M])": [5, 5],
-            "(fun x -> x)": [1, 8],
-            "(fun x a)": [6, 1],
-            "(^ a 10)": [6, 5],
-            "(" * 41: [8, 40],
-            "(f " * 40: [8, 118],
-            whole: [9, whole.rindex("x")],
-            whole + " " + "?": [1, len(whole) + 1],
-        }.items():
+        for text, found in CORE_FAULTS.items():
             self.assertEqual(show(text), found, text)
+            self.assertEqual(core(text), found, text)
 
     def test_two_thousand_bytes_and_one_more(self):
         self.assertEqual(show("x" + " " * 1999), "x")
