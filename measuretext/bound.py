@@ -1,6 +1,6 @@
-"""Bound names: which names of a term are free."""
+"""Bound names: which names of a term are free, and terms whose bound names have given way to v0, v1, v2, .."""
 
-from measuretext.nodes import contents
+from measuretext.nodes import Node, contents
 
 
 # The free names, each once, in the order in which they first stand free in the core text.
@@ -19,3 +19,67 @@ def free_names(term):
             elif content[0] == "body":
                 todo.append((content[1], bound + tuple(node.words)))
     return list(found)
+
+
+# Gives out v0, v1, v2, .. in turn, but none of the names to keep away from.
+class FreshNames:
+    def __init__(self, away):
+        self.away = away
+        self.tried = 0
+
+    def take(self):
+        name = "v" + str(self.tried)
+        self.tried += 1
+        while name in self.away:
+            name = "v" + str(self.tried)
+            self.tried += 1
+        return name
+
+
+# A word or part that is still to be copied: what it is to its node, the node's copy, and the new names that hold
+# there by the old ones.
+class Uncopied:
+    def __init__(self, kind, content, owner, renamed):
+        self.kind = kind
+        self.content = content
+        self.owner = owner
+        self.renamed = renamed
+
+
+def plain_form(term):
+    return plain_form_away(term, free_names(term))
+
+
+def plain_form_away(term, away):
+    fresh = FreshNames(away)
+    whole = Node("whole", [], [], term.begin, term.end)
+    todo = [Uncopied("part", term, whole, {})]
+    while todo:
+        item = todo.pop()
+        if item.kind == "part" or item.kind == "body":
+            copy_node(todo, item)
+        elif item.kind == "name":
+            item.renamed[item.content] = fresh.take()
+            item.owner.words.append(item.renamed[item.content])
+        else:
+            item.owner.words.append(item.content)
+    return whole.parts[0]
+
+
+def copy_node(todo, item):
+    node = item.content
+    copied = Node(node.form, leaf_words(node, item.renamed), [], node.begin, node.end)
+    item.owner.parts.append(copied)
+    # The names come off the list before the body does: the body finds them here, though they aren't known yet.
+    within = dict(item.renamed)
+    for content in reversed(contents(node)):
+        renamed = item.renamed if content[0] == "part" else within
+        todo.append(Uncopied(content[0], content[1], copied, renamed))
+
+
+def leaf_words(node, renamed):
+    if node.form == "name":
+        return [renamed.get(node.words[0], node.words[0])]
+    if node.form == "number":
+        return [node.words[0]]
+    return []

@@ -1,6 +1,6 @@
 """The calls. Each takes texts as lists of bytes and answers a list of whole numbers."""
 
-from measuretext.bound import free_names
+from measuretext.bound import free_names, plain_form
 from measuretext.core_reader import core_term
 from measuretext.faults import Fault
 from measuretext.layout import surface_text
@@ -12,6 +12,7 @@ MOST_BYTES = 2000
 TEXT_TOO_LONG = -1
 NOT_THERE = -2
 ANSWER_TOO_LONG = -4
+IN_SECOND_TEXT = 20
 
 
 # Of each token of a surface text its sort, its place and how many bytes it has.
@@ -54,6 +55,18 @@ def free(text):
     return answered(text, core_term, free_answer)
 
 
+# The core text of the plain form of the term that a core text says.
+def plain(text):
+    return answered(text, core_term, plain_answer)
+
+
+# Whether two core texts say terms that differ in bound names alone.
+def alike(first, second):
+    if is_either_too_long(first, second):
+        return [TEXT_TOO_LONG]
+    return both_answered(first, second, alike_answer)
+
+
 # What is answered of what the text is read to, or the text's refusal or fault.
 def answered(text, reading, answering):
     if len(text) > MOST_BYTES:
@@ -63,6 +76,23 @@ def answered(text, reading, answering):
     except Fault as fault:
         return [fault.kind, fault.place]
     return answering(found)
+
+
+def is_either_too_long(first, second):
+    return len(first) > MOST_BYTES or len(second) > MOST_BYTES
+
+
+# What is answered of the terms that two core texts say, or the first fault of the texts.
+def both_answered(first, second, answering):
+    try:
+        term = core_term(first)
+    except Fault as fault:
+        return [fault.kind, fault.place]
+    try:
+        other = core_term(second)
+    except Fault as fault:
+        return [fault.kind + IN_SECOND_TEXT, fault.place]
+    return answering(term, other)
 
 
 def tokens_answer(found):
@@ -106,6 +136,16 @@ def free_answer(term):
         answer.append(len(name))
         answer.extend(bytes_of(name))
     return answer
+
+
+def plain_answer(term):
+    return text_answer(core_text(plain_form(term)))
+
+
+def alike_answer(term, other):
+    if core_text(plain_form(term)) == core_text(plain_form(other)):
+        return [0, 1]
+    return [0, 0]
 
 
 def text_answer(shown):

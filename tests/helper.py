@@ -56,6 +56,14 @@ def free(text):
     return found
 
 
+def plain(text):
+    return said(terms.plain(data(text)))
+
+
+def alike(first, second):
+    return terms.alike(data(first), data(second))
+
+
 def stretches(text):
     """What where answers of each node, without the 0."""
     found = []

@@ -127,3 +127,54 @@ def free_of(term):
         if sign in "pb":
             found += [name for name in free_of(piece) if sign == "p" or name not in bound]
     return list(dict.fromkeys(found))
+
+
+def renamed(term, fresh, scope=None):
+    """The term with a name that fresh() gives at each binding place, in the order of core text."""
+    scope = scope or {}
+    if isinstance(term, str):
+        return scope.get(term, term)
+    found, within = [term[0]], dict(scope)
+    for sign, piece in zip(SHAPES[term[0]], term[1:]):
+        if sign == "n":
+            within[piece] = fresh()
+            found.append(within[piece])
+        elif sign == "d":
+            found.append(piece)
+        else:
+            found.append(renamed(piece, fresh, within if sign == "b" else scope))
+    return tuple(found)
+
+
+def plain_of(term, away=None):
+    away = free_of(term) if away is None else away
+    names = iter([name for name in (f"v{number}" for number in range(1000)) if name not in away])
+    return renamed(term, lambda: next(names))
+
+
+def nameless(term, scope=()):
+    """The term with, in the place of each bound name, how many binding places stand between it and its own."""
+    if isinstance(term, str):
+        return scope.index(term) if term in scope else term
+    names = [piece for sign, piece in zip(SHAPES[term[0]], term[1:]) if sign == "n"]
+    within = tuple(reversed(names)) + scope
+    found = [term[0]]
+    for sign, piece in zip(SHAPES[term[0]], term[1:]):
+        if sign != "n":
+            found.append(piece if sign == "d" else nameless(piece, within if sign == "b" else scope))
+    return tuple(found)
+
+
+def changed(source, term):
+    """The term with one piece of it, a name at a binding place perhaps, changed to another."""
+    if isinstance(term, str):
+        return source.choice(LEAVES)
+    number = source.randrange(len(SHAPES[term[0]]))
+    sign, piece = SHAPES[term[0]][number], term[number + 1]
+    if sign == "n":
+        piece = source.choice(NAMES)
+    elif sign == "d":
+        piece = str(source.randrange(-9, 10))
+    else:
+        piece = changed(source, piece)
+    return term[:number + 1] + (piece,) + term[number + 2:]
