@@ -1,6 +1,6 @@
-"""Bound names: which names of a term are free, and terms whose bound names have given way to v0, v1, v2, .."""
+"""Bound names: which are free, their plain forms v0, v1, v2, .., and terms put for a free name."""
 
-from measuretext.nodes import Node, contents
+from measuretext.nodes import PART_KINDS, Node, contents
 
 
 # The free names, each once, in the order in which they first stand free in the core text.
@@ -56,11 +56,12 @@ def plain_form_away(term, away):
     todo = [Uncopied("part", term, whole, {})]
     while todo:
         item = todo.pop()
-        if item.kind == "part" or item.kind == "body":
+        if item.kind in PART_KINDS:
             copy_node(todo, item)
         elif item.kind == "name":
-            item.renamed[item.content] = fresh.take()
-            item.owner.words.append(item.renamed[item.content])
+            name = fresh.take()
+            item.renamed[item.content] = name
+            item.owner.words.append(name)
         else:
             item.owner.words.append(item.content)
     return whole.parts[0]
@@ -83,3 +84,27 @@ def leaf_words(node, renamed):
     if node.form == "number":
         return [node.words[0]]
     return []
+
+
+# The term with the other one put for the name; the bound names give way first, so that none catches a free one.
+def put_for(name, term, other):
+    away = free_names(term) + free_names(other) + [name]
+    return with_name_replaced(plain_form_away(term, away), name, other)
+
+
+# A copy of the term, in which the name is bound nowhere, with the other one in each place of the name.
+def with_name_replaced(term, name, other):
+    whole = Node("whole", [], [], term.begin, term.end)
+    todo = [(term, whole)]
+    while todo:
+        item = todo.pop()
+        node = item[0]
+        owner = item[1]
+        if node.form == "name" and node.words[0] == name:
+            owner.parts.append(other)
+        else:
+            copied = Node(node.form, node.words, [], node.begin, node.end)
+            owner.parts.append(copied)
+            for part in reversed(node.parts):
+                todo.append((part, copied))
+    return whole.parts[0]

@@ -2,7 +2,7 @@
 
 from measuretext.faults import Fault
 from measuretext.figures import amount_text
-from measuretext.nodes import FORMS, MOST_DEPTH, PLAIN_FORMS, Node, check_limits
+from measuretext.nodes import FORMS, MOST_DEPTH, PART_KINDS, PLAIN_FORMS, Node, check_limits
 from measuretext.scan import Row, core_tokens
 
 
@@ -27,14 +27,15 @@ def core_term(text):
 
 
 def go_on(row, todo, step):
-    if step.kind == "part" or step.kind == "body":
+    owner = step.owner
+    if step.kind in PART_KINDS:
         begin_term(row, todo, step)
     elif step.kind == "name":
-        step.owner.words.append(row.take_kind("name").content)
+        owner.words.append(row.take_kind("name").content)
     elif step.kind == "power":
-        step.owner.words.append(amount_text(row.take_kind("digit").content))
+        owner.words.append(amount_text(row.take_kind("digit").content))
     else:
-        step.owner.end = row.take_kind(step.kind).end
+        owner.end = row.take_kind(step.kind).end
 
 
 def begin_term(row, todo, step):

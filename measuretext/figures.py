@@ -1,6 +1,6 @@
 """Number texts, the exact fractions that they mean, and measures."""
 
-from measuretext.signs import FRACTION_SIGNS, MOST_SIGNS, is_digit, is_in_word, is_letter, run_end
+from measuretext.signs import FRACTION_SIGNS, is_digit, is_short_word, run_end
 
 MOST_DIGITS = 12
 FIRST_TOO_GREAT = 1000000000000
@@ -69,12 +69,6 @@ def is_factor(factor):
         return is_short_word(factor)
     halves = factor.partition("^")
     return is_short_word(halves[0]) and is_power(halves[2])
-
-
-def is_short_word(word):
-    if word == "" or len(word) > MOST_SIGNS or not is_letter(ord(word[0])):
-        return False
-    return all([is_in_word(ord(sign)) for sign in word])
 
 
 def is_power(power):

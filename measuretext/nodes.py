@@ -6,6 +6,7 @@ MOST_DEPTH = 40
 MOST_NODES = 300
 SPELLED_FORMS = ("name", "number")
 PLAIN_FORMS = ("true", "false", "nil")
+PART_KINDS = ("part", "body")
 
 # What stands in core text behind each form's first word, in turn; an apply has no such word.
 # A body is a part in which the form's names are bound.
@@ -67,6 +68,11 @@ def check_limits(term):
             raise Fault(9, item[0].begin)
 
 
+# How many names the node binds.
+def binding_places(node):
+    return FORMS.get(node.form, ()).count("name")
+
+
 def core_text(term):
     return unfolded(term, core_pieces)
 
@@ -106,10 +112,10 @@ def core_pieces(node):
 def contents(node):
     found = []
     words = 0
-    for step in FORMS.get(node.form, ()):
-        if step == "part" or step == "body":
-            found.append((step, node.parts[len(found) - words]))
+    for kind in FORMS.get(node.form, ()):
+        if kind in PART_KINDS:
+            found.append((kind, node.parts[len(found) - words]))
         else:
-            found.append((step, node.words[words]))
+            found.append((kind, node.words[words]))
             words += 1
     return found

@@ -38,6 +38,16 @@ def is_in_word(byte):
     return is_letter(byte) or is_digit(byte) or byte == 95
 
 
+def is_short_word(text):
+    if text == "" or len(text) > MOST_SIGNS or not is_letter(ord(text[0])):
+        return False
+    return all([is_in_word(ord(sign)) for sign in text])
+
+
+def is_name(text):
+    return is_short_word(text) and text not in TAKEN_WORDS
+
+
 def is_blank(byte):
     return byte == BLANK
 

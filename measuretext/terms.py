@@ -1,17 +1,19 @@
 """The calls. Each takes texts as lists of bytes and answers a list of whole numbers."""
 
-from measuretext.bound import free_names, plain_form
+from measuretext.bound import free_names, plain_form, put_for
 from measuretext.core_reader import core_term
 from measuretext.faults import Fault
 from measuretext.layout import surface_text
-from measuretext.nodes import core_text, numbered
+from measuretext.nodes import binding_places, check_limits, core_text, numbered
 from measuretext.reader import surface_term
 from measuretext.scan import surface_tokens
+from measuretext.signs import is_name, signs_of
 
 MOST_BYTES = 2000
 TEXT_TOO_LONG = -1
 NOT_THERE = -2
-ANSWER_TOO_LONG = -4
+NO_NAME = -3
+TOO_GREAT = -4
 IN_SECOND_TEXT = 20
 
 
@@ -65,6 +67,21 @@ def alike(first, second):
     if is_either_too_long(first, second):
         return [TEXT_TOO_LONG]
     return both_answered(first, second, alike_answer)
+
+
+# The core text of the first term with the second put for a name, in its plain form.
+def put(name, first, second):
+    if is_either_too_long(first, second):
+        return [TEXT_TOO_LONG]
+    word = signs_of(name)
+    if not is_name(word):
+        return [NO_NAME]
+    return both_answered(first, second, lambda term, other: put_answer(word, term, other))
+
+
+# How many nodes the term has that a core text says, its greatest depth, and how many binding places.
+def size(text):
+    return answered(text, core_term, size_answer)
 
 
 # What is answered of what the text is read to, or the text's refusal or fault.
@@ -148,9 +165,24 @@ def alike_answer(term, other):
     return [0, 0]
 
 
+def put_answer(name, term, other):
+    outcome = put_for(name, term, other)
+    try:
+        check_limits(outcome)
+    except Fault:
+        return [TOO_GREAT]
+    return plain_answer(outcome)
+
+
+def size_answer(term):
+    found = numbered(term)
+    deepest = max([item[1] for item in found])
+    return [0, len(found), deepest, sum([binding_places(item[0]) for item in found])]
+
+
 def text_answer(shown):
     if len(shown) > MOST_BYTES:
-        return [ANSWER_TOO_LONG]
+        return [TOO_GREAT]
     return [0] + bytes_of(shown)
 
 

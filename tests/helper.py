@@ -64,6 +64,14 @@ def alike(first, second):
     return terms.alike(data(first), data(second))
 
 
+def put(name, first, second):
+    return said(terms.put(data(name), data(first), data(second)))
+
+
+def size(text):
+    return terms.size(data(text))
+
+
 def stretches(text):
     """What where answers of each node, without the 0."""
     found = []

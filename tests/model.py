@@ -178,3 +178,36 @@ def changed(source, term):
     else:
         piece = changed(source, piece)
     return term[:number + 1] + (piece,) + term[number + 2:]
+
+
+def term_of(text):
+    """The term of a core text as it's shown."""
+    tokens = text.replace("(", "( ").replace(")", " )").split()
+
+    def one():
+        token = tokens.pop(0)
+        if token != "(":
+            return token
+        form = tokens.pop(0) if tokens[0] in SHAPES else "apply"
+        found = [form]
+        while tokens[0] != ")":
+            found.append(one())
+        tokens.pop(0)
+        return tuple(found)
+
+    return one()
+
+
+def put_nameless(name, term, other):
+    """A term without names, with another such in the place of each free name: there, nothing can be caught."""
+    if isinstance(term, tuple):
+        return (term[0], *(put_nameless(name, piece, other) for piece in term[1:]))
+    return other if term == name else term
+
+
+def size_of(term):
+    """How many nodes, the greatest depth, how many binding places."""
+    sizes = [size_of(part) for part in parts_of(term)]
+    places = 0 if isinstance(term, str) else SHAPES[term[0]].count("n")
+    return (1 + sum(size[0] for size in sizes), 1 + max([size[1] for size in sizes], default=0),
+            places + sum(size[2] for size in sizes))

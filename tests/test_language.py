@@ -126,6 +126,39 @@ class Form(unittest.TestCase):
             if isinstance(node, ast.Call) and isinstance(node.func, ast.Attribute):
                 self.assertIn(node.func.attr, METHODS + sorted(methods), where)
 
+    def test_lists_and_dicts_at_the_top_hold_none(self):
+        for name, tree in self.trees.items():
+            for node in tree.body:
+                if isinstance(node, ast.Assign) and isinstance(node.value, (ast.List, ast.Dict)):
+                    within = [other for other in ast.walk(node.value) if other is not node.value]
+                    self.assertFalse([other for other in within if isinstance(other, (ast.List, ast.Dict))], name)
+
+    def test_is_stands_beside_none_and_truths(self):
+        for where, node in self.walked():
+            if isinstance(node, ast.Compare) and isinstance(node.ops[0], (ast.Is, ast.IsNot)):
+                self.assertIsInstance(node.comparators[0], ast.Constant, where)
+
+    def test_walked_at_once(self):
+        for where, node in self.walked():
+            on_the_spot = []
+            if isinstance(node, (ast.For, ast.comprehension)):
+                on_the_spot = [node.iter]
+            if isinstance(node, ast.Call) and isinstance(node.func, ast.Name) and node.func.id in ("list", "tuple"):
+                on_the_spot = node.args
+            for other in on_the_spot:
+                other.walked = True
+        for where, node in self.walked():
+            if isinstance(node, ast.Call) and isinstance(node.func, ast.Name):
+                if node.func.id in ("zip", "enumerate", "reversed", "range"):
+                    self.assertTrue(getattr(node, "walked", False), where)
+
+    def test_errors(self):
+        for where, node in self.walked():
+            if isinstance(node, ast.ExceptHandler):
+                self.assertEqual(node.type.id, "Fault", where)
+            if isinstance(node, ast.Raise):
+                self.assertIsInstance(node.exc, ast.Call, where)
+
     def test_locals_are_not_called_like_imports_or_classes(self):
         for name, tree in self.trees.items():
             tops = [alias.name for node in tree.body if isinstance(node, ast.ImportFrom) for alias in node.names]
