@@ -1,5 +1,7 @@
 """Texts as the calls take them, and answers as people read them."""
 
+import copy
+
 from measuretext import terms
 
 TAKEN = (
@@ -10,6 +12,19 @@ TAKEN = (
 
 def data(text):
     return [ord(sign) for sign in text]
+
+
+def call_twice(case, call, *handed):
+    """Holds that the answer is a list of ints, that what is handed in stays, and that nothing is kept."""
+    before = copy.deepcopy(handed)
+    answer = call(*handed)
+    case.assertEqual(handed, before)
+    case.assertIs(type(answer), list)
+    case.assertTrue(all(type(number) is int for number in answer))
+    kept = list(answer)
+    answer.append(7)
+    case.assertEqual(call(*handed), kept)
+    case.assertEqual(handed, before)
 
 
 def said(answer):

@@ -40,6 +40,18 @@ def many_terms(count, seed, most=60):
     return [made_up(source, source.randrange(1, most), source.choice([3, 6, 40])) for number in range(count)]
 
 
+def deep_terms(leaf):
+    """For each part of each form a term of depth 40, nested in that part alone; each behind its form."""
+    for form, shape in SHAPES.items():
+        for number in [at for at, sign in enumerate(shape) if sign in "pb"]:
+            term = leaf
+            for step in range(39):
+                pieces = [{"n": "f", "p": "x", "b": "x", "d": "-2"}[sign] for sign in shape]
+                pieces[number] = term
+                term = (form, *pieces)
+            yield form, term
+
+
 def core_of(term):
     if isinstance(term, str):
         return term

@@ -1,7 +1,7 @@
 import random
 import unittest
 
-from helper import CORE_FAULTS, alike, core_tree, data, measured, plain
+from helper import CORE_FAULTS, alike, call_twice, core_tree, data, measured, plain
 from measuretext import terms
 from model import changed, core_of, many_terms, nameless, renamed
 
@@ -155,13 +155,7 @@ class Calls(unittest.TestCase):
         texts = ("(let x 5[m] (x (fn y (v0 y))))", "(let y 5[m] (y (fn x (v0 x))))", "1", " " * 2001, "?", "(f")
         for one in texts:
             for other in texts:
-                first, second = data(one), data(other)
-                answer = terms.alike(first, second)
-                self.assertEqual((first, second), (data(one), data(other)))
-                self.assertTrue(type(answer) is list and all(type(number) is int for number in answer))
-                kept = list(answer)
-                answer.append(7)
-                self.assertEqual(terms.alike(first, second), kept)
+                call_twice(self, terms.alike, data(one), data(other))
 
     def test_one_list_as_both(self):
         for text, answer in (("(fn x (y x))", [0, 1]), ("(f", [6, 2]), (" " * 2001, [-1])):

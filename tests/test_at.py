@@ -1,7 +1,7 @@
 import unittest
 
 from derivation import many_derivations
-from helper import SURFACE_FAULTS, at, data, measured, read, tree
+from helper import SURFACE_FAULTS, at, call_twice, data, measured, read, tree
 from measuretext import terms
 
 
@@ -165,13 +165,7 @@ class Calls(unittest.TestCase):
     def test_what_is_handed_in_stays_and_nothing_is_kept(self):
         for text in ("let x = (5[m]) in (x)", "x", " " * 2001, *SURFACE_FAULTS):
             for place in (0, 4, 9, -1, 10 ** 18):
-                handed = data(text)
-                first = terms.at(place, handed)
-                self.assertEqual(handed, data(text))
-                self.assertTrue(type(first) is list and all(type(number) is int for number in first))
-                kept = list(first)
-                first.append(7)
-                self.assertEqual(terms.at(place, handed), kept)
+                call_twice(self, terms.at, place, data(text))
 
 
 if __name__ == "__main__":

@@ -1,7 +1,7 @@
 import random
 import unittest
 
-from helper import TAKEN, core, core_tree, data, measured
+from helper import TAKEN, call_twice, core, core_tree, data, measured
 from measuretext import terms
 from model import SHAPES, core_of, many_terms
 
@@ -451,18 +451,7 @@ class LongTexts(Cases):
 class Calls(unittest.TestCase):
     def test_what_is_handed_in_stays_and_nothing_is_kept(self):
         for text in ("(let x 5[m] x)", "(+ 1", "", "?", "(" * 50, core_tree(151), " " * 2001, "(+a" + measured(1996)):
-            handed = data(text)
-            first = terms.core(handed)
-            self.assertEqual(handed, data(text))
-            kept = list(first)
-            first.append(7)
-            self.assertEqual(terms.core(handed), kept)
-
-    def test_answers_are_lists_of_ints(self):
-        for text in ("(let x 5[m] x)", "(+ 1", "", " " * 2001):
-            answer = terms.core(data(text))
-            self.assertIs(type(answer), list)
-            self.assertTrue(all(type(number) is int for number in answer))
+            call_twice(self, terms.core, data(text))
 
 
 if __name__ == "__main__":

@@ -13,8 +13,8 @@ NUMBER = re.compile("-?([0-9]+)(?:([/.])([0-9]+))?")
 FACTOR = r"(?:1|[a-z][a-z0-9_]{0,11}(?:\^-?[0-9]{1,2})?)"
 MEASURE = re.compile(FACTOR + "(?:[./]" + FACTOR + ")*")
 PIECES = (
-    TAKEN + "( ( ( ) ) ) + - * / ^ < = x y f v0 1 -1 3/4 -0.50 2[m] 9 10 -9 1/0 5[ 5[m 5[M] ? [ ] { > , . _ \n".split(" ")
-    + ["abcdefghijkl", "abcdefghijklm", " ", "  ", ""]
+    TAKEN + "( ( ( ) ) ) + - * / ^ < = x y f v0 abcdefghijkl 1 -1 3/4 -0.50 2[m] 9 10 -9".split(" ")
+    + "abcdefghijklm 1/0 5[ 5[m 5[M] ? [ ] { > , . _ \n".split(" ") + [" ", "  ", ""]
 )
 
 

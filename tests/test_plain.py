@@ -1,6 +1,6 @@
 import unittest
 
-from helper import CORE_FAULTS, core, core_tree, data, measured, plain
+from helper import CORE_FAULTS, call_twice, core, core_tree, data, measured, plain
 from measuretext import terms
 from model import core_of, many_terms, plain_of
 
@@ -161,13 +161,7 @@ class Faults(unittest.TestCase):
 class Calls(unittest.TestCase):
     def test_what_is_handed_in_stays_and_nothing_is_kept(self):
         for text in ("(let x 5[m] (x (fn y (v0 y))))", "1", " " * 2001, *CORE_FAULTS):
-            handed = data(text)
-            first = terms.plain(handed)
-            self.assertEqual(handed, data(text))
-            self.assertTrue(type(first) is list and all(type(number) is int for number in first))
-            kept = list(first)
-            first.append(7)
-            self.assertEqual(terms.plain(handed), kept)
+            call_twice(self, terms.plain, data(text))
 
 
 if __name__ == "__main__":

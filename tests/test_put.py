@@ -1,7 +1,7 @@
 import random
 import unittest
 
-from helper import CORE_FAULTS, TAKEN, core_tree, data, measured, plain, put, size
+from helper import CORE_FAULTS, TAKEN, call_twice, core_tree, data, measured, plain, put, size
 from measuretext import terms
 from model import NAMES, core_of, many_terms, nameless, put_nameless, term_of
 
@@ -250,13 +250,7 @@ class Calls(unittest.TestCase):
         for name in ("x", "y", "let", ""):
             for one in texts:
                 for other in texts:
-                    handed = [data(name), data(one), data(other)]
-                    answer = terms.put(*handed)
-                    self.assertEqual(handed, [data(name), data(one), data(other)])
-                    self.assertTrue(type(answer) is list and all(type(number) is int for number in answer))
-                    kept = list(answer)
-                    answer.append(7)
-                    self.assertEqual(terms.put(*handed), kept)
+                    call_twice(self, terms.put, data(name), data(one), data(other))
 
     def test_one_list_several_times(self):
         for text, answer in (("x", [0, 120]), ("(f", [-3]), ("let", [-3])):

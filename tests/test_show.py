@@ -1,8 +1,8 @@
 import unittest
 
-from helper import CORE_FAULTS, core, core_tree, data, measured, read, show
+from helper import CORE_FAULTS, call_twice, core, core_tree, data, measured, read, show
 from measuretext import terms
-from model import SHAPES, core_of, many_terms, ranked
+from model import core_of, deep_terms, many_terms, ranked
 
 # A term of each kind, its surface text and its rank.
 KINDS = (
@@ -292,19 +292,11 @@ class MadeUp(unittest.TestCase):
         self.assertGreater(met, 300)
 
     def test_deep_terms(self):
-        for form, shape in SHAPES.items():
-            for number, sign in enumerate(shape):
-                if sign not in "pb":
-                    continue
-                term = "-1"
-                for step in range(39):
-                    pieces = [{"n": "f", "p": "x", "b": "x", "d": "-2"}[other] for other in shape]
-                    pieces[number] = term
-                    term = (form, *pieces)
-                text, shown = core_of(term), ranked(term)
-                self.assertEqual(show(text), shown if len(shown) <= 2000 else [-4])
-                if len(shown) <= 2000:
-                    self.assertEqual(read(shown), text)
+        for form, term in deep_terms("-1"):
+            text, shown = core_of(term), ranked(term)
+            self.assertEqual(show(text), shown if len(shown) <= 2000 else [-4], form)
+            if len(shown) <= 2000:
+                self.assertEqual(read(shown), text, form)
 
     def test_300_nodes(self):
         shown = show(core_tree(150))
@@ -346,18 +338,7 @@ class Faults(unittest.TestCase):
 class Calls(unittest.TestCase):
     def test_what_is_handed_in_stays_and_nothing_is_kept(self):
         for text in ("(let x 5[m] (fn y (- x -1)))", "(+ 1", "", "?", core_tree(151), " " * 2001):
-            handed = data(text)
-            first = terms.show(handed)
-            self.assertEqual(handed, data(text))
-            kept = list(first)
-            first.append(7)
-            self.assertEqual(terms.show(handed), kept)
-
-    def test_answers_are_lists_of_ints(self):
-        for text in ("(let x 5[m] x)", "(+ 1", "", " " * 2001):
-            answer = terms.show(data(text))
-            self.assertIs(type(answer), list)
-            self.assertTrue(all(type(number) is int for number in answer))
+            call_twice(self, terms.show, data(text))
 
 
 if __name__ == "__main__":

@@ -1,8 +1,8 @@
 import unittest
 
-from helper import CORE_FAULTS, core_tree, data, measured, size
+from helper import CORE_FAULTS, call_twice, core_tree, data, measured, size
 from measuretext import terms
-from model import SHAPES, core_of, many_terms, size_of
+from model import SHAPES, core_of, deep_terms, many_terms, size_of
 
 
 class Cases(unittest.TestCase):
@@ -80,17 +80,10 @@ class Limits(unittest.TestCase):
         self.assertEqual(size(core_tree(151))[0], 9)
 
     def test_depth_40(self):
-        for form, shape in SHAPES.items():
-            for number, sign in enumerate(shape):
-                if sign not in "pb":
-                    continue
-                term = "x"
-                for step in range(39):
-                    pieces = [{"n": "f", "p": "x", "b": "x", "d": "-2"}[other] for other in shape]
-                    pieces[number] = term
-                    term = (form, *pieces)
-                parts = sum(other in "pb" for other in shape)
-                self.assertEqual(size(core_of(term)), [0, 1 + 39 * parts, 40, 39 * shape.count("n")], form)
+        for form, term in deep_terms("x"):
+            shape = SHAPES[form]
+            parts = shape.count("p") + shape.count("b")
+            self.assertEqual(size(core_of(term)), [0, 1 + 39 * parts, 40, 39 * shape.count("n")], form)
         self.assertEqual(size("(fst " * 40 + "x" + ")" * 40), [8, 200])
 
     def test_texts_of_two_thousand_bytes_and_one_more(self):
@@ -115,13 +108,7 @@ class Faults(unittest.TestCase):
 class Calls(unittest.TestCase):
     def test_what_is_handed_in_stays_and_nothing_is_kept(self):
         for text in ("(let x 5[m] (x (fn y (v0 y))))", "1", " " * 2001, *CORE_FAULTS):
-            handed = data(text)
-            first = terms.size(handed)
-            self.assertEqual(handed, data(text))
-            self.assertTrue(type(first) is list and all(type(number) is int for number in first))
-            kept = list(first)
-            first.append(7)
-            self.assertEqual(terms.size(handed), kept)
+            call_twice(self, terms.size, data(text))
 
 
 if __name__ == "__main__":

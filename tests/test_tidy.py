@@ -1,7 +1,7 @@
 import unittest
 
 from derivation import many_derivations
-from helper import SURFACE_FAULTS, data, measured, read, show, tidy, tree
+from helper import SURFACE_FAULTS, call_twice, data, measured, read, show, tidy, tree
 from measuretext import terms
 from model import ranked
 
@@ -178,13 +178,7 @@ class Faults(unittest.TestCase):
 class Calls(unittest.TestCase):
     def test_what_is_handed_in_stays_and_nothing_is_kept(self):
         for text in ("let x = (5[m]) in (x)", "not " + measured(1990), " " * 2001, *SURFACE_FAULTS):
-            handed = data(text)
-            first = terms.tidy(handed)
-            self.assertEqual(handed, data(text))
-            self.assertTrue(type(first) is list and all(type(number) is int for number in first))
-            kept = list(first)
-            first.append(7)
-            self.assertEqual(terms.tidy(handed), kept)
+            call_twice(self, terms.tidy, data(text))
 
 
 if __name__ == "__main__":

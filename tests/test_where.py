@@ -1,7 +1,7 @@
 import unittest
 
 from derivation import many_derivations
-from helper import SURFACE_FAULTS, data, measured, read, stretches, tree, where
+from helper import SURFACE_FAULTS, call_twice, data, measured, read, stretches, tree, where
 from measuretext import terms
 
 
@@ -210,13 +210,7 @@ class Calls(unittest.TestCase):
     def test_what_is_handed_in_stays_and_nothing_is_kept(self):
         for text in ("let x = (5[m]) in (x)", "x", " " * 2001, *SURFACE_FAULTS):
             for node in (0, 1, 2, 3, -1, 10 ** 18):
-                handed = data(text)
-                first = terms.where(node, handed)
-                self.assertEqual(handed, data(text))
-                self.assertTrue(type(first) is list and all(type(number) is int for number in first))
-                kept = list(first)
-                first.append(7)
-                self.assertEqual(terms.where(node, handed), kept)
+                call_twice(self, terms.where, node, data(text))
 
 
 if __name__ == "__main__":

@@ -10,14 +10,17 @@ import unittest
 
 from derivation import many_derivations
 from helper import (
-    CORE_FAULTS, SURFACE_FAULTS, alike, core, core_tree, data, free, plain, put, read, show, size, stretches, tidy, tree,
+    CORE_FAULTS, SURFACE_FAULTS, alike, core, core_tree, data, free, plain, put, read, show, size, stretches, tidy,
+    tree,
 )
 from measuretext import terms
 from model import core_of, free_of, many_terms
 
 TOP = pathlib.Path(__file__).resolve().parent.parent
 SURFACE = ["let f x = x ^ 2 in f 3[m] > 5", "[a, (b), 1.50]", "not a or b <> c", tree(150), *SURFACE_FAULTS]
-CORE = ["(let f (fn x (^ x 2)) (< 5 (f 3[m])))", "(rec x x (v0 x))", "(case l a h t (h t))", core_tree(150), *CORE_FAULTS]
+CORE = [
+    "(let f (fn x (^ x 2)) (< 5 (f 3[m])))", "(rec x x (v0 x))", "(case l a h t (h t))", core_tree(150), *CORE_FAULTS,
+]
 CALLS = (
     [(name, [data(text)]) for name in ("tokens", "read", "tidy") for text in SURFACE]
     + [(name, [number, data(text)]) for name in ("where", "at") for number in (0, 3, -1) for text in SURFACE]
